@@ -146,7 +146,7 @@ func wantFuse(f int, list []api.Span) (api.Span, bool) {
 			hi = min(hi, s.Hi)
 		}
 	}
-	if clip(lo) > clip(hi) {
+	if lo > hi {
 		return api.Span{}, false
 	}
 	return api.Span{Lo: clip(lo), Hi: clip(hi)}, true
@@ -183,8 +183,13 @@ func TestFuse(t *testing.T) {
 		{0, []api.Span{{Lo: math.MinInt, Hi: math.MaxInt}}, span.All(), true}, {0, []api.Span{{Lo: 7, Hi: math.MaxInt}, {Lo: math.MinInt, Hi: 9}}, api.Span{Lo: 7, Hi: 9}, true},
 		{0, []api.Span{{Lo: most + 1, Hi: most + 3}}, api.Span{Lo: most, Hi: most}, true}, {1, []api.Span{{Lo: most + 1, Hi: most + 3}, {Lo: most, Hi: most + 1}, {Lo: math.MinInt, Hi: -most}}, api.Span{Lo: most, Hi: most}, true},
 		{0, []api.Span{{Lo: math.MaxInt, Hi: math.MinInt}}, api.Span{}, false}, {0, []api.Span{{Lo: most, Hi: most - 1}}, api.Span{}, false}, {0, []api.Span{{Lo: math.MinInt, Hi: -most - 1}, {Lo: 1 - most, Hi: 5}}, api.Span{}, false},
-		// It is the clipped ends that are held against one another.
-		{0, []api.Span{{Lo: most + 3, Hi: most + 1}}, api.Span{Lo: most, Hi: most}, true}, {0, []api.Span{{Lo: -most - 1, Hi: math.MinInt}}, api.Span{Lo: -most, Hi: -most}, true},
+		// The ends are held against one another as they are told, not as they are clipped.
+		{0, []api.Span{{Lo: most + 3, Hi: most + 1}}, api.Span{}, false}, {0, []api.Span{{Lo: most + 1, Hi: most}}, api.Span{}, false}, {0, []api.Span{{Lo: math.MaxInt, Hi: math.MaxInt - 1}}, api.Span{}, false},
+		{0, []api.Span{{Lo: -most - 1, Hi: math.MinInt}}, api.Span{}, false}, {0, []api.Span{{Lo: -most, Hi: -most - 1}}, api.Span{}, false}, {0, []api.Span{{Lo: math.MinInt + 1, Hi: math.MinInt}}, api.Span{}, false},
+		{0, []api.Span{{Lo: most + 3, Hi: most + 3}}, api.Span{Lo: most, Hi: most}, true}, {0, []api.Span{{Lo: math.MinInt, Hi: math.MinInt}}, api.Span{Lo: -most, Hi: -most}, true},
+		// So are those that come from different spans.
+		{0, []api.Span{{Lo: 0, Hi: most + 1}, {Lo: most + 2, Hi: most + 5}}, api.Span{}, false}, {0, []api.Span{{Lo: 0, Hi: most + 2}, {Lo: most + 2, Hi: most + 5}}, api.Span{Lo: most, Hi: most}, true},
+		{1, []api.Span{{Lo: -most - 9, Hi: -most - 5}, {Lo: -most - 4, Hi: -most - 3}, {Lo: -most - 2, Hi: 7}}, api.Span{Lo: -most, Hi: -most}, true}, {1, []api.Span{{Lo: -most - 4, Hi: -most - 5}, {Lo: -most - 4, Hi: -most - 5}, {Lo: -most - 2, Hi: 7}}, api.Span{}, false},
 	} {
 		if got, ok := trim.Fuse(c.f, c.list...); got != c.want || ok != c.ok {
 			t.Errorf("Fuse(%d) of %v is %v, %v", c.f, c.list, got, ok)
