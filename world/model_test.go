@@ -169,7 +169,7 @@ func (m *model) put(l api.Way, s string) api.Errno {
 	return api.OK
 }
 
-// heard is what waits for a unit, and decodes; then nothing waits for it.
+// heard is what waits for a unit, decodes, and bears the number of who sent it; then nothing waits for it.
 func (m *model) heard(who int, ages []api.Aged) []api.Heard {
 	var out []api.Heard
 	for from := range 48 {
@@ -180,8 +180,7 @@ func (m *model) heard(who int, ages []api.Aged) []api.Heard {
 			}
 		}
 		for _, s := range m.waits[way(from, who)] {
-			if x, e := wire.Decode(s); e == api.OK {
-				x.From = from
+			if x, e := wire.Decode(s); e == api.OK && x.From == from {
 				out = append(out, api.Heard{Msg: x, Age: age})
 			}
 		}

@@ -261,19 +261,23 @@ func wantHops(t *testing.T, what string, w *world.World, who, hops int) {
 	}
 }
 
-// TestHeardByLane is P24.1's second part of a beat: from whom a frame is, is what its lane tells, whatever it says itself.
-func TestHeardByLane(t *testing.T) {
+// TestOwnName is P24.1's second part of a beat: a frame is heard if it bears the number of its lane, and else as nobody's.
+func TestOwnName(t *testing.T) {
 	for _, x := range []struct {
 		what string
 		from []int // what stands in the frames of the gateways' lanes
 		hops int
 	}{
 		{"their own", []int{0, 1, 2}, 0},
+		{"all of them", []int{0, 1, 2, 3}, 0},
 		{"two of them", []int{0, 1}, 3},
-		{"all say that they are one", []int{3, 3, 3}, 0},
-		{"they say that they are one another", []int{2, 0, 1}, 0},
-		{"or nodes", []int{16, 47, 20}, 0},
-		{"one speaks for all", []int{0}, 3},
+		{"three, and one in another one's name", []int{0, 1, 2, 0}, 0},
+		{"two, and one in the name of one that is quiet", []int{0, 1, 3}, 3},
+		{"two, and two that change names", []int{0, 1, 3, 2}, 3},
+		{"two, and one in a node's name", []int{0, 1, 16}, 3},
+		{"all say that they are one", []int{3, 3, 3}, 3},
+		{"they say that they are one another", []int{2, 0, 1}, 3},
+		{"or nodes", []int{16, 47, 20}, 3},
 	} {
 		w := listener(t, 4, 1)
 		for lane, from := range x.from {
@@ -289,13 +293,79 @@ func TestHeardByLane(t *testing.T) {
 	}
 	goes(t, w, api.Step{})
 	wantHops(t, "one speaks for all, by their numbers", w, 16, 3)
-	// A gateway hears what has its own number in it, but nothing in its own lane.
-	for lane, good := range map[int]bool{0: false, 1: true} {
+}
+
+// TestOwnNameOfAny is P24.1 of each lane, and each number that a frame may bear: one that bears another is taken, and not heard.
+func TestOwnNameOfAny(t *testing.T) {
+	w := listener(t, 16, 0)
+	for lane := range 48 {
+		for from := range 48 {
+			kind, hops := 1, 0
+			if from >= 16 {
+				kind, hops = 2, 1
+			}
+			// Nobody is his own neighbour.
+			if from != lane || from == 16 {
+				hops = 3
+			}
+			w.Begin(16, api.State{})
+			for range 2 {
+				w.Put(way(lane, 16), frame(said(kind, from, lasting(4000, 50))))
+				goes(t, w, api.Step{})
+			}
+			wantHops(t, "behind two frames", w, 16, hops)
+			want(t, "how many wait", waiting(w, way(lane, 16)), 0)
+		}
+	}
+}
+
+// TestOwnNameOfGateways is P24.1 of what a gateway hears: the other one by its own lane, and nothing by its own.
+func TestOwnNameOfGateways(t *testing.T) {
+	for _, x := range []struct {
+		lane, from int
+		good       bool
+	}{{1, 1, true}, {1, 0, false}, {0, 1, false}, {0, 0, false}, {1, 2, false}, {2, 1, false}, {16, 1, false}} {
 		w := listener(t, 2, 0)
-		w.Put(way(lane, 0), frame(said(1, 0, lasting(4000, 50))))
+		w.Put(way(x.lane, 0), frame(said(1, x.from, lasting(4000, 50))))
 		goes(t, w, api.Step{})
-		if w.Front(0).S.Good != good {
-			t.Errorf("by the lane %d the gateway 0 holds %+v", lane, w.Front(0).S)
+		if w.Front(0).S.Good != x.good {
+			t.Errorf("by a frame of %d in the lane %d the gateway 0 holds %+v", x.from, x.lane, w.Front(0).S)
+		}
+	}
+}
+
+// TestOwnNameBesideOthers is P24.1 of frames in another one's name: those of the same lane, and of the one whom they name, are heard all the same.
+func TestOwnNameBesideOthers(t *testing.T) {
+	other, own := frame(said(1, 1, lasting(9000, 50))), frame(said(1, 0, lasting(4000, 50)))
+	for _, list := range [][]string{{other, own}, {own, other}, {other, other, own, other}} {
+		w := listener(t, 2, 0)
+		for _, s := range list {
+			w.Put(way(0, 16), s)
+		}
+		goes(t, w, api.Step{})
+		want(t, "the span in its own name", w.Front(16).S.Span, carry.Way(fabric(2, 0), lasting(4000, 50), 900))
+		// Now the one that is named comes behind, and would be passed over, had the first one been heard.
+		w = listener(t, 2, 0)
+		w.Put(way(0, 16), other)
+		w.Put(way(1, 16), frame(said(1, 1, lasting(4000, 50))))
+		goes(t, w, api.Step{})
+		want(t, "the span of the one that was named", w.Front(16).S.Span, carry.Way(fabric(2, 0), lasting(4000, 50), 900))
+	}
+}
+
+// TestOtherNameIsNobodys is P24.1 of a node's frame in another one's name: neither of both was heard in that beat.
+func TestOtherNameIsNobodys(t *testing.T) {
+	own, other := frame(said(2, 17, lasting(4000, 50))), frame(said(2, 18, lasting(4000, 50)))
+	w := listener(t, 1, 0)
+	for i, x := range []struct {
+		lane int
+		s    string
+		hops int
+	}{{17, own, 3}, {17, own, 1}, {17, other, 3}, {17, own, 3}, {18, own, 3}, {17, own, 3}, {17, own, 1}} {
+		w.Put(way(x.lane, 16), x.s)
+		goes(t, w, api.Step{})
+		if s := w.Front(16).S; s.Hops != x.hops {
+			t.Errorf("beat %d: it holds %+v", i, s)
 		}
 	}
 }
@@ -373,6 +443,7 @@ func TestAllAreTaken(t *testing.T) {
 		w.Put(way(0, 16), good[i%2:])
 		w.Put(way(47, 17), good)
 		w.Put(way(0, 0), good)
+		w.Put(way(5, 16), good)
 		w.Put(way(16, 16), "x")
 	}
 	goes(t, w, api.Step{Off: []int{17}})
@@ -553,6 +624,7 @@ func TestLies(t *testing.T) {
 		{"along other ways", []api.Lie{lie(0, 18, 7000), lie(1, 16, 7000), lie(16, 0, 7000), lie(0, 0, 7000), lie(-1, 16, 7000)}, 5000, 5000},
 		{"a frame that doesn't decode", []api.Lie{lie(0, 17, 7000), text(0, 17, "x")}, 5000, none},
 		{"none at all", []api.Lie{text(0, 16, "")}, none, 5000},
+		{"in another one's name", []api.Lie{text(0, 16, frame(said(1, 1, lasting(7000, 50)))), text(0, 17, frame(said(2, 16, lasting(7000, 50))))}, none, none},
 		{"one too long", []api.Lie{text(0, 16, strings.Repeat("x", 4097)), text(0, 17, strings.Repeat("x", 4096))}, none, none},
 	} {
 		w := begun(t, fabric(1, 0), 3, []int{0, 1})
